@@ -1,0 +1,1 @@
+"""Sums that either side may answer."""
