@@ -22,16 +22,21 @@ def is_tree(value):
 
 def leaves(tree):
     """The row of the tree."""
-    row = []
+    return tuple([name for name in in_postfix(tree) if name is not None])
+
+
+def in_postfix(tree):
+    """The leaves from left to right, with None behind each two trees that are put together."""
+    found = []
     waiting = [tree]
     while waiting:
         part = waiting.pop()
-        if isinstance(part, str):
-            row.append(part)
+        if part is None or isinstance(part, str):
+            found.append(part)
         else:
             left, right = part
-            waiting.extend([right, left])
-    return tuple(row)
+            waiting.extend([None, right, left])
+    return found
 
 
 def left_tree(row):
@@ -112,18 +117,13 @@ def _number(tree, numbers):
     Parts have the same number exactly if they are equal, and the dict holds them in the order of the numbers.
     """
     done = []
-    waiting = [(tree, False)]
-    while waiting:
-        part, is_counted = waiting.pop()
-        if is_counted:
+    for name in in_postfix(tree):
+        if name is None:
             right = done.pop()
             left = done.pop()
             done.append(numbers.setdefault((left, right), len(numbers)))
-        elif isinstance(part, str):
-            done.append(numbers.setdefault(part, len(numbers)))
         else:
-            left, right = part
-            waiting.extend([(part, True), (right, False), (left, False)])
+            done.append(numbers.setdefault(name, len(numbers)))
     return done[0]
 
 

@@ -1,6 +1,10 @@
-"""What several tests use: values, trees from their definitions, and real Python classes made from a book."""
+"""What several tests use: values, trees and rows from their definitions, and real Python classes made from a book."""
 
+import itertools
 import operator
+
+from eitherside.books import Book
+from eitherside.tables import Table
 
 N = ("n", None, (("forward", (("n", "self"),), "decline"),))
 M = ("m", "n", (("reflected", (("n", "self"),), "decline"),))
@@ -75,6 +79,155 @@ def differ_by_one_turn(one, two):
     if one[0] == two[0]:
         return differ_by_one_turn(one[1], two[1])
     return one[1] == two[1] and differ_by_one_turn(one[0], two[0])
+
+
+def error_of(kind, ask):
+    """The error of this very kind that the call raises."""
+    try:
+        ask()
+    except kind as error:
+        return error
+    raise AssertionError(f"{kind.__name__} was not raised")
+
+
+def in_order(outcomes):
+    """The list of what is in this one, ascending, without duplicates, None last."""
+    return sorted(set(outcomes) - {None}) + [None] * (None in outcomes)
+
+
+def small_book():
+    return Book([N, M, S])
+
+
+def table_by(names, rule):
+    """The table of these letters with the outcomes of a function of two classes."""
+    return Table(tuple(sorted(names)), {pair: rule(*pair) for pair in itertools.product(sorted(names), repeat=2)})
+
+
+def random_table(chance, names, raising=0.2):
+    """Any table; so many of its sums raise."""
+    return table_by(names, lambda left, right: None if chance.random() < raising else chance.choice(sorted(names)))
+
+
+def outcome_by(table, tree):
+    """The words of point 9, for small trees."""
+    if isinstance(tree, str):
+        return tree
+    left, right = [outcome_by(table, part) for part in tree]
+    return None if left is None or right is None else table.sum_of(left, right)
+
+
+def random_entries(chance, names):
+    """The entries of any book with these classes."""
+    entries = []
+    for at, name in enumerate(names):
+        base = chance.choice([None] + list(names[:at]))
+        methods = []
+        for side in ("forward", "reflected", "inplace"):
+            if chance.random() < 0.5:
+                cases = [(chance.choice(names), chance.choice([*names, "self", "other"])) for _ in range(3)]
+                methods.append((side, tuple(cases[: chance.randrange(4)]), chance.choice(["decline", "super"])))
+        entries.append((name, base, tuple(methods)))
+    return entries
+
+
+def one(name):
+    return ("one", name)
+
+
+def some(*parts):
+    """One of several patterns; a string stands for its class."""
+    return ("any", tuple(one(part) if isinstance(part, str) else part for part in parts))
+
+
+def row_of(*parts):
+    return ("row", tuple(one(part) if isinstance(part, str) else part for part in parts))
+
+
+def many(part):
+    return ("many", one(part) if isinstance(part, str) else part)
+
+
+def random_pattern(chance, names, depth):
+    kind = chance.choice(["one", "any", "row", "many"]) if depth > 1 else "one"
+    if kind == "one":
+        return one(chance.choice(names))
+    if kind == "many":
+        return many(random_pattern(chance, names, depth - 1))
+    return (kind, tuple(random_pattern(chance, names, depth - 1) for _ in range(chance.choice([2, 2, 3]))))
+
+
+def classes_of(pattern):
+    """The classes of a pattern from left to right."""
+    kind, inner = pattern
+    if kind == "one":
+        return [inner]
+    return classes_of(inner) if kind == "many" else sum(map(classes_of, inner), [])
+
+
+def rows_up_to(pattern, most):
+    """The rows with at most so many classes, straight from point 11, as a set."""
+    kind, inner = pattern
+    if kind == "one":
+        return {(inner,)}
+    if kind == "any":
+        return set().union(*[rows_up_to(part, most) for part in inner])
+    if kind == "row":
+        found = {()}
+        for part in inner:
+            found = behind_each_other(found, rows_up_to(part, most), most)
+        return found
+    found = fresh = once = rows_up_to(inner, most)
+    while fresh:
+        fresh = behind_each_other(fresh, once, most) - found
+        found = found | fresh
+    return found
+
+
+def behind_each_other(lefts, rights, most):
+    return {left + right for left in lefts for right in rights if len(left + right) <= most}
+
+
+def by_length(found):
+    return sorted(found, key=lambda row: (len(row), row))
+
+
+def with_numbers(pattern, number=1):
+    """The pattern with the numbers of its nodes in place of its classes, and the next number."""
+    kind, inner = pattern
+    if kind == "one":
+        return (kind, number), number + 1
+    if kind == "many":
+        part, number = with_numbers(inner, number)
+        return (kind, part), number
+    parts = []
+    for part in inner:
+        part, number = with_numbers(part, number)
+        parts.append(part)
+    return (kind, tuple(parts)), number
+
+
+def nodes_by_rows(pattern, most):
+    """The steps and the ends that the rows with at most so many classes show."""
+    names = [None] + classes_of(pattern)
+    rows = rows_up_to(with_numbers(pattern)[0], most)
+    steps = {(node, target, names[target]) for row in rows for node, target in zip((0,) + row, row)}
+    return sorted(steps), sorted({row[-1] for row in rows})
+
+
+# values that are no patterns, at whatever place of a pattern they stand
+NO_PATTERNS = NO_NAMES + [
+    "a", "one", ("one",), ("one", "a", "a"), ["one", "a"], ("one", ("a",)), ("one", None), ("one", "self"),
+    ("one", "A"),
+    ("two", "a"), ("One", "a"), (None, "a"), (("one",), "a"), ("one", ("one", "a")),
+    ("any", ()), ("any", (("one", "a"),)), ("any", (("one", "a"),) * 5), ("any", [("one", "a"), ("one", "b")]),
+    ("any", ("a", "b")), ("any", ("one", "a")), ("any", (("one", "a"), "b")), ("any", "ab"),
+    ("any", ("one", "a"), ("one", "b")),
+    ("row", ()), ("row", (("one", "a"),)), ("row", (("one", "a"),) * 5), ("row", [("one", "a"), ("one", "b")]),
+    ("row", (("one", "a"), ["one", "b"])), ("row", (("one", "a"), None)), ("row", (("one", "a"), ("two", "b"))),
+    ("many", "a"), ("many", (("one", "a"),)), ("many", (("one", "a"), ("one", "b"))), ("many", ["one", "a"]), ("many",),
+    ("many", ("one", "a"), 1), ("many", None),
+]
 
 
 PYTHON_NAMES = {"forward": "__add__", "reflected": "__radd__", "inplace": "__iadd__"}
