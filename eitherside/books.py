@@ -190,8 +190,8 @@ def _read_head(names):
 
 def _read_case(word):
     """The case, None if the word is no case over any names."""
-    argument, sign, result = word.partition("=")
-    if sign == "" or not is_name(argument) or not (is_name(result) or result in _RESULTS):
+    argument, _, result = word.partition("=")
+    if not is_name(argument) or not (is_name(result) or result in _RESULTS):
         return None
     return (argument, result)
 

@@ -90,6 +90,16 @@ def error_of(kind, ask):
     raise AssertionError(f"{kind.__name__} was not raised")
 
 
+def random_questions_over_tables(chance, number, letters, depth=4, most=12):
+    """Tables with patterns of at most so many of their classes."""
+    while number:
+        names = letters[: chance.randrange(1, len(letters) + 1)]
+        pattern = random_pattern(chance, names, depth)
+        if len(classes_of(pattern)) <= most:
+            number -= 1
+            yield random_table(chance, names, chance.choice([0, 0.2, 0.6])), pattern
+
+
 def in_order(outcomes):
     """The list of what is in this one, ascending, without duplicates, None last."""
     return sorted(set(outcomes) - {None}) + [None] * (None in outcomes)
@@ -215,11 +225,73 @@ def nodes_by_rows(pattern, most):
     return sorted(steps), sorted({row[-1] for row in rows})
 
 
+def rows_between(steps, most):
+    """The tuples (node, node, row) of the rows with at most so many classes that lead from one node to another."""
+    found = fresh = [(start, end, (name,)) for start, end, name in steps]
+    for _ in range(most - 1):
+        longer = []
+        for start, middle, row in fresh:
+            longer += [(start, end, row + (name,)) for other, end, name in steps if other == middle]
+        found, fresh = found + longer, longer
+    return found
+
+
+def added(table, left, right):
+    """The outcome of two outcomes."""
+    return None if left is None or right is None else table.sum_of(left, right)
+
+
+def spans_by_words(table, steps):
+    """All spans over the table, by adding those of two spans until there are no more."""
+    found = set()
+    fresh = {(start, end, name) for start, end, name in steps}
+    while fresh:
+        found |= fresh
+        fresh = {
+            (start, end, added(table, left, right))
+            for start, middle, left in found
+            for other, end, right in found
+            if middle == other
+        } - found
+    return found
+
+
+def twists_by_words(table, steps):
+    """All twists with different outcomes over the table, in both orders, by adding spans until there are no more."""
+    spans = spans_by_words(table, steps)
+    fresh = set()
+    for start, first, a in spans:
+        for again, second, b in spans:
+            for last, end, c in spans:
+                if first == again and second == last:
+                    one, other = added(table, added(table, a, b), c), added(table, a, added(table, b, c))
+                    fresh |= {(start, end, one, other), (start, end, other, one)}
+    found = set()
+    fresh = {twist for twist in fresh if twist[2] != twist[3]}
+    while fresh:
+        found |= fresh
+        fresh = set()
+        for start, end, one, other in found:
+            for low, high, more in spans:
+                if low == end:
+                    fresh.add((start, high, added(table, one, more), added(table, other, more)))
+                if high == start:
+                    fresh.add((low, end, added(table, more, one), added(table, more, other)))
+        fresh = {twist for twist in fresh if twist[2] != twist[3]} - found
+    return found
+
+
+def as_strings(parts):
+    """The tuple with the empty string in place of None."""
+    return tuple("" if part is None else part for part in parts)
+
+
 # values that are no patterns, at whatever place of a pattern they stand
 NO_PATTERNS = NO_NAMES + [
     "a", "one", ("one",), ("one", "a", "a"), ["one", "a"], ("one", ("a",)), ("one", None), ("one", "self"),
     ("one", "A"),
-    ("two", "a"), ("One", "a"), (None, "a"), (("one",), "a"), ("one", ("one", "a")),
+    ("two", (("one", "a"), ("one", "b"))), ("Any", (("one", "a"), ("one", "b"))), (None, (("one", "a"), ("one", "b"))),
+    (("any",), (("one", "a"), ("one", "b"))), (("one", "a"), ("one", "b")), ("two", "a"), ("One", "a"), (None, "a"), (("one",), "a"), ("one", ("one", "a")),
     ("any", ()), ("any", (("one", "a"),)), ("any", (("one", "a"),) * 5), ("any", [("one", "a"), ("one", "b")]),
     ("any", ("a", "b")), ("any", ("one", "a")), ("any", (("one", "a"), "b")), ("any", "ab"),
     ("any", ("one", "a"), ("one", "b")),
