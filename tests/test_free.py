@@ -114,8 +114,8 @@ class Unfree(unittest.TestCase):
             twisted = [twist for twist in twists_by_words(table, steps(pattern)) if twist[0] == 0 and twist[1] in stops]
             found.append(self.check(table, pattern))
             self.assertEqual(found[-1], not twisted)
-        self.assertGreater(found.count(True), 50)
-        self.assertGreater(found.count(False), 50)
+        self.assertGreater(found.count(True), 20)
+        self.assertGreater(found.count(False), 20)
 
     def test_no_short_row_of_a_free_pattern_is_unfree(self):
         for table, pattern in random_questions_over_tables(random.Random(86), 150, "abc"):
