@@ -6,7 +6,7 @@ from eitherside.tables import Table
 
 # a text uses these words for something else than a class
 _TAKEN = ("self", "other", "super", "raises")
-_SIDES = ("forward", "reflected", "inplace")
+SIDES = ("forward", "reflected", "inplace")
 _ENDINGS = ("decline", "super")
 _RESULTS = ("self", "other")
 _MOST_CASES = 6
@@ -26,7 +26,7 @@ class Book:
 
     def __init__(self, entries=()):
         """The entries are tuples (name, base, methods)."""
-        _check_entries(entries)
+        _check_entries(entries, self.LIMIT)
         self._entries = list(entries)
         self._bases = {name: base for name, base, _ in entries}
         self._methods = {name: methods for name, _, methods in entries}
@@ -106,9 +106,9 @@ class Book:
         return Book(self._entries + list(entries))
 
 
-def _check_entries(entries):
-    """Raises NoBook if they are not the entries of a book."""
-    if not isinstance(entries, (list, tuple)) or len(entries) > Book.LIMIT:
+def _check_entries(entries, most):
+    """Raises NoBook if they are not the entries of a book with at most so many."""
+    if not isinstance(entries, (list, tuple)) or len(entries) > most:
         raise NoBook(-1)
     names = []
     for position, entry in enumerate(entries):
@@ -134,7 +134,7 @@ def _are_methods(value, names):
     if not isinstance(value, tuple) or not all([_is_method(method, names) for method in value]):
         return False
     sides = [side for side, _, _ in value]
-    return sides == [side for side in _SIDES if side in sides]
+    return sides == [side for side in SIDES if side in sides]
 
 
 def _is_method(value, names):
@@ -142,7 +142,7 @@ def _is_method(value, names):
     if not isinstance(value, tuple) or len(value) != 3:
         return False
     side, cases, ending = value
-    if side not in _SIDES or ending not in _ENDINGS:
+    if side not in SIDES or ending not in _ENDINGS:
         return False
     if not isinstance(cases, tuple) or len(cases) > _MOST_CASES:
         return False
@@ -173,15 +173,18 @@ def _show_method(method):
 def _read_line(line):
     """What a row says: (name, base) or (side, cases, ending), None if it is no row."""
     words = line.split(" ")
-    if words[0] == "class":
-        return _read_head(words[1:])
-    if len(words) < 2 or words[0] not in _SIDES or words[1] not in _ENDINGS:
+    return read_head(words[1:]) if words[0] == "class" else read_method(words)
+
+
+def read_method(words):
+    """The method, None if these words are no method with any number of cases over any names."""
+    if len(words) < 2 or words[0] not in SIDES or words[1] not in _ENDINGS:
         return None
     cases = tuple([_read_case(word) for word in words[2:]])
     return None if None in cases else (words[0], cases, words[1])
 
 
-def _read_head(names):
+def read_head(names):
     """The name and the base, None if these words are no class with a base or without one."""
     if not 1 <= len(names) <= 2 or not all([is_name(name) for name in names]):
         return None

@@ -39,8 +39,13 @@ def _names_of(pattern):
 
 def check_pattern(pattern, classes):
     """Raises NoPattern if it is not a pattern with these classes."""
-    if not is_pattern(pattern) or not all([name in classes for name in _names_of(pattern)]):
+    if not is_pattern_over(pattern, classes):
         raise NoPattern(pattern)
+
+
+def is_pattern_over(value, classes):
+    """Whether any value is a pattern with these classes."""
+    return is_pattern(value) and all([name in classes for name in _names_of(value)])
 
 
 def show_pattern(pattern):

@@ -107,15 +107,25 @@ def _check_tree(tree, classes):
 def outcome_of(table, tree):
     """The outcome of the tree."""
     _check_tree(tree, table.classes())
+    return sums_made(table, tree)[0]
+
+
+def sums_made(table, tree):
+    """The outcome of the tree, and a dict from each pair of classes whose sum occurs in it to the outcome of these."""
     done = []
+    made = {}
     for name in in_postfix(tree):
         if name is None:
             right = done.pop()
             left = done.pop()
-            done.append(None if left is None or right is None else table[left, right])
+            if left is None or right is None:
+                done.append(None)
+            else:
+                made[left, right] = table[left, right]
+                done.append(made[left, right])
         else:
             done.append(name)
-    return done[0]
+    return (done[0], made)
 
 
 def left_sum(book, row, *, inplace=False):
